@@ -250,9 +250,9 @@ func TestFar(t *testing.T) {
 	b = append(append(b, one...), far...)
 	h := api.Head{Progs: []api.Prog{
 		{Type: api.PtLoad, Vaddr: 0x1000, Filesz: at},
-		{Type: api.PtLoad, Vaddr: 1<<64-28, Off: at, Filesz: 28},
+		{Type: api.PtLoad, Vaddr: 1<<64 - 28, Off: at, Filesz: 28},
 		{Type: api.PtLoad, Vaddr: 0, Off: at + 28, Filesz: 28}}}
-	d := api.Dyn{Strtab: 0x1000, Strsz: uint64(len(text)), Versym: 0x1000 + uint64(len(text)), Verdef: 1<<64-28, Verdefnum: 1}
+	d := api.Dyn{Strtab: 0x1000, Strsz: uint64(len(text)), Versym: 0x1000 + uint64(len(text)), Verdef: 1<<64 - 28, Verdefnum: 1}
 	if v, err := vers.Read(b, h, d, 1); err != nil || len(v.Defs) != 1 {
 		t.Errorf("P8.1: %+v, %v", v, err)
 	}
