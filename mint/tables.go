@@ -20,6 +20,7 @@ type texts struct {
 	places map[string]uint64
 }
 
+// newTexts is a table without strings but the empty one.
 func newTexts() *texts {
 	return &texts{bytes: []byte{0}, places: map[string]uint64{"": 0}}
 }
