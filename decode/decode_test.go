@@ -159,6 +159,61 @@ func TestDecodeNone(t *testing.T) {
 	}
 }
 
+// TestOpcodes: which bytes begin an instruction, alone, behind an extension, behind 0f.
+func TestOpcodes(t *testing.T) {
+	in := func(c int, ranges ...int) bool {
+		for i := 0; i < len(ranges); i += 2 {
+			if c >= ranges[i] && c <= ranges[i+1] {
+				return true
+			}
+		}
+		return false
+	}
+	for c := range 256 {
+		reckons := c < 0x40 && c&7 < 6 && in(c>>3, 0, 1, 4, 7)
+		always := reckons || in(c, 0x50, 0x5f, 0x68, 0x6b, 0x70, 0x7f, 0x80, 0x81, 0x83, 0x85, 0x88, 0x8b, 0x8d, 0x8d, 0xa8, 0xa9, 0xb0, 0xb3, 0xb8, 0xbf,
+			0xc1, 0xc1, 0xc3, 0xc3, 0xc6, 0xc7, 0xc9, 0xc9, 0xd1, 0xd1, 0xd3, 0xd3, 0xe8, 0xe9, 0xeb, 0xeb, 0xf4, 0xf4, 0xf6, 0xf7, 0xff, 0xff, 0x0f, 0x0f)
+		second := in(c, 0x1f, 0x1f, 0x40, 0x4f, 0x80, 0x8f, 0x90, 0x9f, 0xaf, 0xaf, 0xb6, 0xb6, 0xbe, 0xbe)
+		for _, k := range []struct {
+			ahead []byte
+			may   bool
+		}{
+			{nil, always || in(c, 0x40, 0x4f, 0x64, 0x64, 0x90, 0x90, 0xf3, 0xf3)},
+			{[]byte{0x40}, always || in(c, 0xb4, 0xb7, 0x90, 0x90)},
+			{[]byte{0x41}, always || in(c, 0xb4, 0xb7)},
+			{[]byte{0x48}, always || in(c, 0xb4, 0xb7, 0x90, 0x90, 0x63, 0x63)},
+			{[]byte{0x0f}, second}, {[]byte{0x4f, 0x0f}, second},
+		} {
+			if _, err := decode.Decode(append(k.ahead, byte(c))); (err != api.ErrOpcode) != k.may {
+				t.Errorf("P12.1: %x%02x: %v", k.ahead, c, err)
+			}
+		}
+	}
+	for n := range 16 {
+		for b, op := range map[byte]int{0x40: api.OpCmov, 0x80: api.OpJcc, 0x90: api.OpSet} {
+			if i, err := decode.Decode([]byte{0x0f, b + byte(n), 0xc0, 0, 0, 0}); i.Op != op || i.Cond != n || err != nil {
+				t.Errorf("P12.1: 0f %x: %+v, %v", int(b)+n, i, err)
+			}
+		}
+		if i, err := decode.Decode([]byte{0x70 + byte(n), 5}); i.Op != api.OpJcc || i.Cond != n || err != nil {
+			t.Errorf("P12.1: %x: %+v, %v", 0x70+n, i, err)
+		}
+		r := n & 7
+		w := byte(0x40 + n>>3)
+		for b, want := range map[byte]api.Inst{0x50: inst(api.OpPush, reg(n, 8)), 0x58: inst(api.OpPop, reg(n, 8)), 0xb0: inst(api.OpMov, reg(n, 1), num(1, 1)), 0xb8: inst(api.OpMov, reg(n, 4), num(1, 4))} {
+			i, err := decode.Decode([]byte{w, b + byte(r), 1, 0, 0, 0})
+			i.Size = 0
+			if i != want || err != nil {
+				t.Errorf("P12.1: %x %x: %+v, %v", w, int(b)+r, i, err)
+			}
+		}
+		i, err := decode.Decode([]byte{w | 8, 0xb8 + byte(r), 1, 0, 0, 0, 0, 0, 0, 0})
+		if i.Size = 0; i != inst(api.OpMov, reg(n, 8), num(1, 8)) || err != nil {
+			t.Errorf("P12.1: %x %x: %+v, %v", w|8, 0xb8+r, i, err)
+		}
+	}
+}
+
 // TestBeginnings: what is the beginning of an instruction can be gone on with; what is none can't; what is one is no beginning of another.
 func TestBeginnings(t *testing.T) {
 	var starts [][]byte

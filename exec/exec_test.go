@@ -196,6 +196,24 @@ func TestMemory(t *testing.T) {
 	}
 }
 
+// TestRegisterZero: register 0 is one, as a base and as an index.
+func TestRegisterZero(t *testing.T) {
+	for digits, r := range map[string]api.Regs{
+		"48 8b 18":                {R: [16]uint64{0: data}},
+		"48 8b 1c 01":             {R: [16]uint64{0: data - 0x10, 1: 0x10}},
+		"48 8b 1c 08":             {R: [16]uint64{0: data - 0x10, 1: 0x10}},
+		"48 8b 1c 85 00 00 00 00": {R: [16]uint64{0: data / 4}},
+	} {
+		m := machine(t, digits)
+		if err := m.Poke(data, []byte{7, 8}); err != nil {
+			t.Fatal(err)
+		}
+		if got := step(t, m, r); got.R[3] != 0x0807 {
+			t.Errorf("P13.2: %s: %x", digits, got.R[3])
+		}
+	}
+}
+
 // TestBarred: memory that may not be read or written, with nothing changed.
 func TestBarred(t *testing.T) {
 	end := uint64(data + api.Page)
@@ -205,7 +223,7 @@ func TestBarred(t *testing.T) {
 		err    api.Code
 	}{
 		{"48 8b 03", end, api.ErrRead}, {"48 89 03", end, api.ErrWrite}, {"48 01 03", end, api.ErrRead}, {"48 8b 02", code + api.Page, api.ErrRead}, {"89 02", code + 4092, api.ErrWrite}, {"83 02 01", code + 4092, api.ErrWrite},
-		{"38 01", 0, api.ErrRead}, {"84 01", 0, api.ErrRead}, {"88 01", 0, api.ErrWrite}, {"c6 01 05", 0, api.ErrWrite}, {"0f 95 01", 0, api.ErrWrite}, {"0f 94 01", 0, api.ErrWrite}, {"0f 44 01", 0, api.ErrRead}, {"0f 45 01", 0, api.ErrRead},
+		{"38 01", 0, api.ErrRead}, {"02 01", 0, api.ErrRead}, {"0a 01", 0, api.ErrRead}, {"3b 01", 0, api.ErrRead}, {"0f be 01", 0, api.ErrRead}, {"84 01", 0, api.ErrRead}, {"88 01", 0, api.ErrWrite}, {"c6 01 05", 0, api.ErrWrite}, {"0f 95 01", 0, api.ErrWrite}, {"0f 94 01", 0, api.ErrWrite}, {"0f 44 01", 0, api.ErrRead}, {"0f 45 01", 0, api.ErrRead},
 		{"ff 01", 0, api.ErrRead}, {"f7 19", 0, api.ErrRead}, {"f7 11", 0, api.ErrRead}, {"d1 21", 0, api.ErrRead}, {"d3 22", code + 4092, api.ErrWrite}, {"0f af 01", 0, api.ErrRead}, {"6b c1 05", 0, 0}, {"6b 01 05", 0, api.ErrRead},
 		{"50", data - 8, api.ErrWrite}, {"ff 31", 0, api.ErrRead}, {"ff 33", end, api.ErrRead}, {"5c", 0, 0}, {"5b", 0, 0}, {"e8 00 00 00 00", data - 8, api.ErrWrite}, {"ff 11", 0, api.ErrRead}, {"ff 12", code + api.Page, api.ErrRead}, {"ff d0", data - 8, api.ErrWrite}, {"ff 21", 0, api.ErrRead},
 		{"c9", 0x5000, api.ErrRead}, {"c3", 0, 0}, {"0f 1f 01", 0, 0}, {"8d 01", 0, 0}, {"64 8b 04 25 00 00 00 00", 0x7000, api.ErrRead}, {"8b 05 00 00 00 80", 1<<64 + code + 6 - 1<<31, api.ErrRead},

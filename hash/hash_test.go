@@ -171,6 +171,7 @@ func TestCountSecondKind(t *testing.T) {
 		{"a bucket far outside", join(words(1, 1, 1, 6), one, words(4095), words(1)), 0, api.ErrRange},
 		{"a bucket of 4096", join(words(1, 1, 1, 6), one, words(4096), words(1)), 0, api.ErrLong},
 		{"a bucket of 2^32 - 1", join(words(1, 1, 1, 6), one, words(math.MaxUint32)), 0, api.ErrLong},
+		{"as many as may be", join(words(4096, 1, 4096, 6), make([]byte, 8*4096+4*4096)), 1, nil},
 		{"a chain up to 4095", join(words(1, 4090, 1, 6), one, words(4090), words(0, 0, 0, 0, 0, 1)), 4096, nil},
 		{"a chain beyond", join(words(1, 4090, 1, 6), one, words(4090), words(0, 0, 0, 0, 0, 0, 1)), 0, api.ErrLong},
 	} {
@@ -300,6 +301,26 @@ func TestOverlap(t *testing.T) {
 	h = api.Head{Progs: []api.Prog{load(0, 0x1000+28, 4), load(4, 0x1000, uint64(len(table)))}}
 	if l, err := hash.Look(b, h, api.Dyn{GnuHash: 0x1000}, names("a"), "a"); !slices.Equal(l, []int{1}) || err != nil {
 		t.Errorf("P7.3: the second kind: %v, %v", l, err)
+	}
+}
+
+// TestCutFile: a chain word that the headers tell, and the file hasn't.
+func TestCutFile(t *testing.T) {
+	k := hash.Gnu("a")
+	b, h := at(join(words(1, 1, 1, 6), bloom(math.MaxUint64), words(1), words(k, k|1)))
+	d := api.Dyn{GnuHash: 0x1000}
+	for n := range 8 {
+		cut := b[:len(b)-n]
+		want := error(nil)
+		if n > 0 {
+			want = api.ErrRange
+		}
+		if _, err := hash.Count(cut, h, d); err != want {
+			t.Errorf("P7.2: %d bytes less: %v", n, err)
+		}
+		if l, err := hash.Look(cut, h, d, names("b", "a"), "a"); err != want || n == 0 && !slices.Equal(l, []int{2}) {
+			t.Errorf("P7.3: %d bytes less: %v, %v", n, l, err)
+		}
 	}
 }
 

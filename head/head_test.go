@@ -111,7 +111,16 @@ func TestReadConstants(t *testing.T) {
 			}
 		}
 	}
-	for _, c := range [][2]byte{{7, 1}, {7, 2}, {16, 1}, {16, 4}, {16, 0}} {
+	for _, at := range places[:7] {
+		for _, more := range []byte{1, 0xff, 2} {
+			b := bytes.Clone(good)
+			b[at] += more
+			if _, err := head.Read(b); !isSpot(err, uint64(at), api.ErrForm) {
+				t.Errorf("P4.1: byte %d is %d: %v", at, b[at], err)
+			}
+		}
+	}
+	for _, c := range [][2]byte{{7, 1}, {7, 2}, {16, 1}, {16, 4}, {16, 0}, {18, 61}, {18, 63}, {20, 0}, {20, 2}, {52, 63}, {52, 65}, {54, 55}, {54, 57}} {
 		b := bytes.Clone(good)
 		b[c[0]] = c[1]
 		if _, err := head.Read(b); !isSpot(err, uint64(c[0]), api.ErrForm) {
@@ -216,6 +225,9 @@ func TestWrite(t *testing.T) {
 		if b, err := head.Write(h); b != nil || err != api.ErrArg {
 			t.Errorf("P4.2: %+v: %v", h, err)
 		}
+	}
+	if b, err := head.Write(api.Head{Type: 2, Progs: make([]api.Prog, 16)}); len(b) != 64+16*56 || b[56] != 16 || err != nil {
+		t.Errorf("P4.2: 16 program headers: %d bytes, %v", len(b), err)
 	}
 	h := api.Head{Type: 2, Entry: 0x1122334455667788, Progs: []api.Prog{
 		{Type: 1, Flags: 0x01020304, Off: 0x1000, Vaddr: 0x2000, Filesz: 0, Memsz: 0x88, Align: 0x1000}, {Type: 9, Vaddr: math.MaxUint64}}}

@@ -6,6 +6,7 @@ import (
 
 	"shackle/api"
 	"shackle/link"
+	"shackle/object"
 	"shackle/sample"
 )
 
@@ -242,6 +243,20 @@ func TestRelocationAmiss(t *testing.T) {
 	if k := start(t, l); len(tied(k)) != 0 {
 		t.Errorf("P21.1: type 0 asks for a symbol: %+v", tied(k))
 	}
+	p.Plan.Rels[0] = api.PlanRel{Where: api.InData, Type: 8, Sym: p.Import(sample.Want("none"))}
+	if k := start(t, l); len(tied(k)) != 0 {
+		t.Errorf("P21.1: type 8 asks for a symbol: %+v", tied(k))
+	}
+	text := later([]string{"x"}, "g")
+	text.Plan.Plt[0].Where, text.Plan.Plt[0].Off = api.InCode, 0
+	refused(t, "P21.1: a slot in text", setup(), tree(t, files{path: text, "/lib64/x": defines("", "g", 9)}), path, "", api.ErrReloc)
+	packed := prog()
+	packed.Plan.Relr = []uint64{packed.Word(0)}
+	b, err := packed.File()
+	if err != nil || !setTag(b, 36, 40) { // 8 noughts of the header: the address 0, in text
+		t.Fatal(err)
+	}
+	refused(t, "P21.1: a packed one in text", setup(), tree(t, nil, api.Node{Path: path, Data: b}), path, "", api.ErrReloc)
 	q := later(nil, "g")
 	q.Plan.Pltgot = uint64(len(q.Plan.Data)) - 8
 	refused(t, "P21.1: no room behind Pltgot", setup(), tree(t, files{path: q}), path, "", api.ErrReloc)
@@ -249,6 +264,25 @@ func TestRelocationAmiss(t *testing.T) {
 	q.Ret()
 	q.Plan.HasPltgot, q.Plan.Pltgot = true, 0
 	start(t, files{path: q}) // without a table nothing is written there
+}
+
+// TestTableAmiss: a table of symbols that is amiss is told by who looks in it.
+func TestTableAmiss(t *testing.T) {
+	x, err := defines("", "g", 9).File()
+	if err != nil {
+		t.Fatal(err)
+	}
+	o, err := object.Parse(x)
+	if err != nil {
+		t.Fatal(err)
+	}
+	x[o.Dyn.Hash+16] = 1 // the chain of symbol 1 leads to itself
+	bad := api.Node{Path: "/lib64/x", Data: x}
+	refused(t, "P21.1: a ring", setup(), tree(t, files{path: caller([]string{"x"}, "h")}, bad), path, "h", api.ErrForm)
+	k := start(t, files{path: caller([]string{"x"})}, bad)
+	if a, err := k.Sym(0, "h", ""); a != 0 || !isFault(err, "", "h", api.ErrForm) {
+		t.Errorf("P21.5: %x, %v", a, err)
+	}
 }
 
 // resolves is a library whose function g is what its code, called first, answers: that traps with a number.
@@ -409,7 +443,7 @@ func TestSlots(t *testing.T) {
 
 // TestWrongSlots: the guest asks for what isn't a slot.
 func TestWrongSlots(t *testing.T) {
-	for what, numbers := range map[string][2]byte{"no object": {9, 0}, "no relocation": {0, 9}, "a negative object": {0xff, 0}, "a negative relocation": {0, 0xff}, "another type": {0, 1}} {
+	for what, numbers := range map[string][2]byte{"no object": {9, 0}, "no relocation": {0, 9}, "a negative object": {0xff, 0}, "a negative relocation": {0, 0xff}, "another type": {0, 1}, "the next object": {2, 0}, "the next relocation": {0, 2}} {
 		p := prog("x")
 		p.Raw(0x6a, numbers[1], 0x6a, numbers[0])
 		p.Reach(p.Word(api.LinkerPage+16), 0xff, 0x25)

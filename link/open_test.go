@@ -319,6 +319,10 @@ func TestOpenModule(t *testing.T) {
 	if o := k.Objects(); o[2].Module != 1 || o[3].Module != 2 || o[1].Module != 0 {
 		t.Errorf("P21.4: %+v", o)
 	}
+	if open(t, k, "b", false, false); k.Objects()[4].Module != 0 {
+		t.Errorf("P21.4: %+v", k.Objects()[4])
+	}
+	shut(t, k, 5)
 	at := find(t, k, a, "tc", "")
 	if b, err := k.Local(0, 2, 8); b != at || err != nil || word(t, k, at-8) != 'c' {
 		t.Errorf("P21.5: %x, %x, %v", at, b, err)
@@ -328,7 +332,7 @@ func TestOpenModule(t *testing.T) {
 		t.Errorf("P21.6: %v", err)
 	}
 	a = open(t, k, "a", false, false)
-	if o := k.Objects(); o[4].Module != 3 || o[5].Module != 4 {
+	if o := k.Objects(); o[5].Module != 3 || o[6].Module != 4 {
 		t.Errorf("P21.4: numbers aren't given again: %+v", o)
 	}
 	x := l["/lib64/c"]
@@ -436,6 +440,7 @@ func TestCloseFaults(t *testing.T) {
 func TestKeep(t *testing.T) {
 	l := some()
 	l["/lib64/a"].Plan.Flags1 = 8
+	l["/lib64/c"].Plan.Flags1 = math.MaxUint64 &^ 8
 	k := start(t, l)
 	a, b := open(t, k, "a", true, false), open(t, k, "b", false, false)
 	shut(t, k, a)
@@ -448,6 +453,11 @@ func TestKeep(t *testing.T) {
 	}
 	if open(t, k, "a", false, false) != a {
 		t.Error("P21.4: opened again")
+	}
+	c := start(t, l)
+	shut(t, c, open(t, c, "c", false, false))
+	if names(c) != path+" z" {
+		t.Errorf("P21.6: other bits: %s", names(c))
 	}
 }
 

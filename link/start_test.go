@@ -171,6 +171,20 @@ func TestSecure(t *testing.T) {
 	if names(k) != path+" z x sz y" {
 		t.Errorf("T4: not secure: %s", names(k))
 	}
+	r := prog("y")
+	r.Plan.HasRpath, r.Plan.Rpath = true, "/opt"
+	if b, err = r.File(); err != nil {
+		t.Fatal(err)
+	}
+	s.Preload = "sx /opt/sx /lib64/sz"
+	more[0] = api.Node{Path: path, Data: b, Setuid: true}
+	if k = startWith(t, s, l, more...); names(k) != path+" y" {
+		t.Errorf("T4: what has Setuid, elsewhere: %s", names(k))
+	}
+	more[0].Setuid = false
+	if k = startWith(t, s, l, more...); names(k) != path+" sx /lib64/sz y" {
+		t.Errorf("T4: not secure: %s", names(k))
+	}
 	p := prog("x")
 	p.Plan.HasRpath, p.Plan.Rpath = true, "$ORIGIN"
 	start(t, files{path: p, "/bin/x": lib("")})

@@ -140,7 +140,7 @@ func segments(t *testing.T, p api.Plan, o api.Object, w api.Layout) {
 func tables(t *testing.T, p api.Plan, o api.Object, w api.Layout) {
 	t.Helper()
 	dyn := progs(o, api.PtDynamic)
-	if len(dyn) != 1 || dyn[0].Vaddr != w.Dynamic || !o.Dynamic {
+	if len(dyn) != 1 || dyn[0].Vaddr != w.Dynamic || !o.Dynamic || !bytes.Equal(at(t, o, w.Dynamic, int(dyn[0].Filesz)), o.Bytes[dyn[0].Off:][:dyn[0].Filesz]) {
 		t.Errorf("P11.3: dynamic %x, %+v", w.Dynamic, dyn)
 	}
 	d := o.Dyn
@@ -489,6 +489,26 @@ func TestLong(t *testing.T) {
 	refused(t, "a file too long", api.Plan{Type: 3, Code: make([]byte, api.MaxFile)}, api.ErrLong)
 	refused(t, "a file too long", api.Plan{Type: 3, Code: make([]byte, api.MaxFile/2), Data: make([]byte, api.MaxFile/2)}, api.ErrLong)
 	compare(t, api.Plan{Type: 3, Code: make([]byte, api.MaxFile/2), Data: make([]byte, api.MaxFile/2-20000), Relro: true})
+}
+
+// TestGreatest: texts of as many bytes as may be, and a file of as many.
+func TestGreatest(t *testing.T) {
+	s := strings.Repeat("n", 255)
+	compare(t, api.Plan{Type: 3, Soname: s, Rpath: s, Runpath: s, HasSoname: true, HasRpath: true, HasRunpath: true, Needed: []string{s},
+		Syms: []api.PlanSym{{Name: s, Where: api.Absolute, Version: s}, {Name: s, Version: s, File: s}}})
+	for _, relro := range []bool{false, true} {
+		p := api.Plan{Type: 3, Relro: relro, Data: make([]byte, 1)}
+		b, err := mint.Encode(p)
+		if err != nil {
+			t.Fatal(err)
+		}
+		p.Data = make([]byte, 1+api.MaxFile-len(b))
+		if b, err := mint.Encode(p); len(b) != api.MaxFile || err != nil {
+			t.Errorf("P11.1: %d bytes, %v", len(b), err)
+		}
+		p.Data = append(p.Data, 0)
+		refused(t, "a file of one byte more", p, api.ErrLong)
+	}
 }
 
 // TestManyVersions: as many versions as may be, defined and needed.

@@ -18,7 +18,7 @@ func TestExpand(t *testing.T) {
 		{"$ORIGIN/../${LIB}:$X", "/opt/a/prog", "/opt/a/../lib64:$X", true}, {"$ORIGINAL", "/a", "$ORIGINAL", false},
 		{"", "/a/b", "", false}, {"plain", "/a/b", "plain", false}, {"$LIB", "/a/b", "lib64", false}, {"${PLATFORM}$PLATFORM", "", "x86_64x86_64", false},
 		{"$ORIGIN", "/a", "/", true}, {"$ORIGIN", "a/b", "a", true}, {"$ORIGIN", "a", "", true}, {"$ORIGIN", "", "", true}, {"$ORIGIN", "/a/", "/a", true}, {"$ORIGIN", "//", "/", true}, {"x${ORIGIN}y", "/a/b", "x/ay", true},
-		{"$ORIGIN_", "/a/b", "$ORIGIN_", false}, {"$ORIGIN9", "/a/b", "$ORIGIN9", false}, {"$ORIGINa", "/a/b", "$ORIGINa", false}, {"$LIBZ", "", "$LIBZ", false}, {"$ORIGIN.so", "/a/b", "/a.so", true}, {"$ORIGIN-$LIB:", "/a/b", "/a-lib64:", true},
+		{"$ORIGIN_", "/a/b", "$ORIGIN_", false}, {"$ORIGIN9", "/a/b", "$ORIGIN9", false}, {"$ORIGINa", "/a/b", "$ORIGINa", false}, {"$LIBZ", "", "$LIBZ", false}, {"$LIBA", "", "$LIBA", false}, {"$LIBz", "", "$LIBz", false}, {"$LIB0", "", "$LIB0", false}, {"$LIB@", "", "lib64@", false}, {"$LIB[", "", "lib64[", false}, {"$LIB`", "", "lib64`", false}, {"$LIB/", "", "lib64/", false}, {"$ORIGIN.so", "/a/b", "/a.so", true}, {"$ORIGIN-$LIB:", "/a/b", "/a-lib64:", true},
 		{"${ORIGIN}A", "/a/b", "/aA", true}, {"${ORIGIN_}", "/a/b", "${ORIGIN_}", false}, {"${ORIGIN", "/a/b", "${ORIGIN", false}, {"${ ORIGIN}", "/a/b", "${ ORIGIN}", false}, {"${}", "/a/b", "${}", false}, {"${LIB}}", "", "lib64}", false},
 		{"$", "/a/b", "$", false}, {"$$LIB", "", "$lib64", false}, {"$$", "", "$$", false}, {"$lib", "", "$lib", false}, {"$LI", "", "$LI", false}, {"$ORIGIN$ORIGIN", "/$LIB/x", "/$LIB/$LIB", true}, {"\xff$LIB\xff", "", "\xfflib64\xff", false}, {"$LIB{", "", "lib64{", false},
 	} {

@@ -235,6 +235,17 @@ func TestNeedsAmiss(t *testing.T) {
 			t.Errorf("P8.1: needs, %s: %+v, %v", c.what, v, err)
 		}
 	}
+	if v, err := lay(words(0)).read(api.Dyn{Versym: 0x1000, Verneednum: 65}, 0); err != nil || len(v.Needs) != 0 {
+		t.Errorf("P8.1: Verneed 0: %v", err)
+	}
+	var all []byte
+	for i := range uint64(64) {
+		all = append(all, need(1, 1, 6, 32, aux(sum("a"), 0, 10+i, 1, 0))...)
+	}
+	g := lay(words(73), all)
+	if v, err := g.read(api.Dyn{Versym: g.at[0], Verneed: g.at[1], Verneednum: 64}, 1); err != nil || len(v.Needs) != 64 {
+		t.Errorf("P8.1: 64 needs: %v", err)
+	}
 	f := lay(words(73), need(1, 64, 6, 0, many...))
 	if v, err := f.read(api.Dyn{Versym: f.at[0], Verneed: f.at[1], Verneednum: 1}, 1); err != nil || len(v.Needs[0].Aux) != 64 {
 		t.Errorf("P8.1: 64 versions: %v", err)

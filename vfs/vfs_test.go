@@ -135,13 +135,13 @@ func TestNewMay(t *testing.T) {
 // TestFollow: how paths and the links in them are followed.
 func TestFollow(t *testing.T) {
 	tr := tree(t, dir("/a"), dir("/a/b"), file("/a/b/f"), link("/a/up", "../a/./b"), link("/abs", "/a//b/"), link("/a/b/rel", "f"),
-		link("/tofile", "a/b/f"), link("/slash", "a/b/f/"), link("/root", "/"), link("/gone", "a/none/x"), link("/dots", "a/b/../.."), link("/two", "abs/rel"))
+		link("/tofile", "a/b/f"), link("/slash", "a/b/f/"), link("/root", "/"), link("/gone", "a/none/x"), link("/dots", "a/b/../.."), link("/two", "abs/rel"), link("/a/b/top", "/tofile"))
 	for _, c := range []struct {
 		path, real string
 		err        error
 	}{
 		{"/a/up/f", "/a/b/f", nil}, {"/abs/rel", "/a/b/f", nil}, {"/abs/..", "/a", nil}, {"/tofile", "/a/b/f", nil},
-		{"/root", "/", nil}, {"/root/a/up/rel", "/a/b/f", nil}, {"/dots/a", "/a", nil}, {"/two", "/a/b/f", nil},
+		{"/root", "/", nil}, {"/root/a/up/rel", "/a/b/f", nil}, {"/dots/a", "/a", nil}, {"/two", "/a/b/f", nil}, {"/a/b/top", "/a/b/f", nil},
 		{"/tofile/", "", api.ErrDir}, {"/tofile/..", "", api.ErrDir}, {"/tofile/.", "", api.ErrDir}, {"/a/b/f/g", "", api.ErrDir},
 		{"/slash", "", api.ErrDir}, {"/gone", "", api.ErrNone}, {"/none/..", "", api.ErrNone}, {"/A", "", api.ErrNone},
 		{"/a\x00", "", api.ErrName}, {"a/b", "", api.ErrName}, {"/" + strings.Repeat("n", 300), "", api.ErrNone},

@@ -139,6 +139,12 @@ func TestMap(t *testing.T) {
 	if err := m.Map(0x3000, 9, 0); !isSpot(err, 0x5000, api.ErrTaken) {
 		t.Errorf("P2.2: taken goes ahead of full: %v", err)
 	}
+	if err := m.Map(0x5000, 9, 0); !isSpot(err, 0x5000, api.ErrTaken) {
+		t.Errorf("P2.2: the first of many: %v", err)
+	}
+	if err := m.Map(0x1000, 4, 0); err != api.ErrFull {
+		t.Errorf("P2.2: right ahead of one that is taken: %v", err)
+	}
 	if err := m.Map(0x1000, 1<<35-1, 0); !isSpot(err, 0x5000, api.ErrTaken) {
 		t.Errorf("P2.2: all there are: %v", err)
 	}
@@ -320,6 +326,11 @@ func TestPermSpans(t *testing.T) {
 	must(t, m.Map(0x9000, 2, 5), m.Map(0x4000, 1, 0), m.Map(0x5000, 3, 5), m.Map(0x8000, 1, 5), m.Map(top, 1, 6))
 	want := []api.Span{{Addr: 0x4000, Pages: 1, Perm: 0}, {Addr: 0x5000, Pages: 6, Perm: 5}, {Addr: top, Pages: 1, Perm: 6}}
 	if l := m.Spans(); !reflect.DeepEqual(l, want) {
+		t.Errorf("P2.6: %v", l)
+	}
+	first := memory(t, 9)
+	must(t, first.Map(0x1000, 3, 6), first.Map(0x4000, 2, 6), first.Map(0x7000, 1, 6))
+	if l := first.Spans(); !reflect.DeepEqual(l, []api.Span{{Addr: 0x1000, Pages: 5, Perm: 6}, {Addr: 0x7000, Pages: 1, Perm: 6}}) {
 		t.Errorf("P2.6: %v", l)
 	}
 	for addr, want := range map[uint64]int{0x4000: 0, 0x4fff: 0, 0x5000: 5, 0xafff: 5, top + 5: 6} {
