@@ -340,6 +340,17 @@ func TestOpenModule(t *testing.T) {
 	if _, err := start(t, l).Open("a", false, false); !isFault(err, "/lib64/c", "tc", api.ErrTLS) {
 		t.Errorf("P21.4: %v", err)
 	}
+	wide := lib("")
+	wide.Plan.HasTLS, wide.Plan.TLSSize, wide.Plan.TLSAlign = true, 8, 4096
+	b, err := wide.File()
+	if err != nil {
+		t.Fatal(err)
+	}
+	b[64+3*56+49] = 0x20 // its fourth header asks for 8192
+	k = start(t, some(), api.Node{Path: "/lib64/wide", Data: b})
+	if _, err := k.Open("wide", false, false); !isFault(err, "/lib64/wide", "", api.ErrTLS) {
+		t.Errorf("P21.4: %v", err)
+	}
 	odd := lib("")
 	odd.Symbol(api.PlanSym{Name: "t", Bind: api.Global, Type: api.TLS, Where: api.Absolute, Off: 8})
 	l["/lib64/odd"] = odd
@@ -434,6 +445,24 @@ func TestCloseFaults(t *testing.T) {
 		t.Error("P21.6: no fuel was used")
 	}
 	find(t, k, h, "fa", "")
+}
+
+// TestFiniArray: one that isn't there, and one that is too long.
+func TestFiniArray(t *testing.T) {
+	for _, size := range []uint64{0x80000, 0x100001, 1 << 63} {
+		b, err := begins("", 5).File()
+		if err != nil || !setTag(b, 28, size) {
+			t.Fatal(err)
+		}
+		l, x := some(), api.Node{Path: "/lib64/x", Data: b}
+		k, other := start(t, l, x), start(t, l, x)
+		h := open(t, k, "x", false, false)
+		open(t, other, "x", false, false)
+		if err := k.Close(h); !isFault(err, "/lib64/x", "", api.ErrGuest) {
+			t.Errorf("P21.6: an array of %x bytes: %v", size, err)
+		}
+		alike(t, "P21.6: an array amiss", other, k)
+	}
 }
 
 // TestKeep: what is to stay stays, and what it needs.

@@ -293,6 +293,11 @@ func TestBeginAmiss(t *testing.T) {
 	refused(t, "P21.1: code", setup(), tree(t, l), "/lib64/x", "", api.ErrGuest)
 	l["/lib64/x"] = far
 	start(t, l)
+	far.Plan.Code[0] = 0x06
+	far.Init()
+	far.Trap(1)
+	far.Ret()
+	refused(t, "P21.1: Init", setup(), tree(t, l), "/lib64/x", "", api.ErrGuest)
 	one := begins("", 1)
 	s := setup()
 	s.Fuel = 0
