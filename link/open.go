@@ -58,7 +58,7 @@ func (l *Link) open(name string, global, now bool) (int, error) {
 		return 0, err
 	}
 	if len(l.objects) > first {
-		if err := l.settle(first, now); err != nil {
+		if err := l.settle(i, first, now); err != nil {
 			return 0, err
 		}
 	}
@@ -73,14 +73,14 @@ func (l *Link) open(name string, global, now bool) (int, error) {
 	return i, l.begin(i)
 }
 
-// settle makes the objects from one on ready to be begun.
-func (l *Link) settle(first int, now bool) error {
+// settle makes the objects from one on, which came with the one that was opened, ready to be begun.
+func (l *Link) settle(opened, first int, now bool) error {
 	if err := l.versions(); err != nil {
 		return err
 	}
-	deps := l.deps()
+	own := graph.Scope(l.deps(), []int{opened})
 	for i := first; i < len(l.objects); i++ {
-		l.objects[i].own = graph.Scope(deps, []int{i})
+		l.objects[i].own = own
 		x, ok := module(l.files[i])
 		if !ok {
 			continue

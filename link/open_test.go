@@ -186,7 +186,7 @@ func TestGlobal(t *testing.T) {
 	}
 }
 
-// TestOwnScope: what was opened later looks in what it needs itself, behind the global scope.
+// TestOwnScope: what comes with an opened object looks in what that needs, by breadth, behind the global scope.
 func TestOwnScope(t *testing.T) {
 	l := some()
 	x, y := lib("", "c"), lib("", "x", "a")
@@ -210,11 +210,113 @@ func TestOwnScope(t *testing.T) {
 	l[path].Ret()
 	k = start(t, l)
 	h = open(t, k, "y", false, false)
-	if v := call(t, k, find(t, k, h, "use", "")); v != 64 {
-		t.Errorf("P21.4: x's own scope, not y's: %d", v)
+	if v := call(t, k, find(t, k, h, "use", "")); v != 62 {
+		t.Errorf("P21.4: the scope of y, with which x came: %d", v)
 	}
 	if v := call(t, k, find(t, k, h, "who", "")); v != 62 {
 		t.Errorf("P21.5: the scope of the handle, by breadth: %d", v)
+	}
+	k = start(t, l)
+	h = open(t, k, "x", false, false)
+	if v := call(t, k, find(t, k, h, "use", "")); v != 64 {
+		t.Errorf("P21.4: x opened by itself: %d", v)
+	}
+	if y := open(t, k, "y", false, false); call(t, k, find(t, k, y, "use", "")) != 64 {
+		t.Error("P21.4: x was there ahead of y")
+	}
+}
+
+// asking is a program, and low, which asks for k at once and at a first call, and mid, which needs low, and top, which needs mid and defines k.
+func asking() files {
+	p := prog()
+	p.Ret()
+	low, mid, top := lib(""), lib("", "low"), lib("", "mid")
+	low.Func("early")
+	low.Call("k")
+	low.Ret()
+	low.Func("late")
+	low.CallLater("k")
+	low.Ret()
+	top.Traps("k", 81)
+	return files{path: p, "/lib64/low": low, "/lib64/mid": mid, "/lib64/top": top}
+}
+
+// TestOpenedDefines: what comes with an opened object finds what that defines, however far below it, and nobody else does.
+func TestOpenedDefines(t *testing.T) {
+	for _, now := range []bool{false, true} {
+		s := setup()
+		s.Now = now
+		k := startWith(t, s, asking())
+		if h, err := k.Open("mid", false, false); h != 0 || !isFault(err, "/lib64/low", "k", api.ErrSymbol) {
+			t.Errorf("P21.4: without top: %d, %v", h, err)
+		}
+		h := open(t, k, "top", false, !now)
+		for _, name := range []string{"early", "late"} {
+			if v := call(t, k, find(t, k, h, name, "")); v != 81 {
+				t.Errorf("P21.4: %s: %d", name, v)
+			}
+		}
+		if l := tied(k); len(l) != 2 || l[0] != l[1] || l[0] != (api.Audit{Kind: api.Tied, Object: 3, Other: 1, Name: "k"}) {
+			t.Errorf("P21.4: an auditor heard %+v", l)
+		}
+		if _, err := k.Sym(0, "k", ""); !isFault(err, "", "k", api.ErrSymbol) || !slices.Equal(k.Scope(), []int{0}) {
+			t.Errorf("P21.4: it isn't global: %v, %v", err, k.Scope())
+		}
+	}
+}
+
+// TestOpenedAhead: what was there ahead of an opened object keeps its own scope, and what comes later has another one.
+func TestOpenedAhead(t *testing.T) {
+	l := asking()
+	user := lib("", "mid")
+	user.Func("mine")
+	user.CallLater("k")
+	user.Ret()
+	low := lib("")
+	low.Func("late")
+	low.CallLater("k")
+	low.Ret()
+	l["/lib64/low"], l["/lib64/user"] = low, user
+	k := start(t, l)
+	m := open(t, k, "mid", false, false)
+	top := open(t, k, "top", false, false)
+	for _, h := range []int{m, top} {
+		if _, err := k.Call(0, find(t, k, h, "late", "")); !isFault(err, "/lib64/low", "k", api.ErrSymbol) {
+			t.Errorf("P21.4: low came with mid: %v", err)
+		}
+	}
+	u := open(t, k, "user", false, false)
+	if _, err := k.Call(0, find(t, k, u, "mine", "")); !isFault(err, "/lib64/user", "k", api.ErrSymbol) {
+		t.Errorf("P21.4: user needs no top: %v", err)
+	}
+}
+
+// TestGoneScope: what is gone means nothing any more to those that came with it and stay.
+func TestGoneScope(t *testing.T) {
+	l := asking()
+	l["/lib64/top"].Traps("other", 82)
+	l["/lib64/mid"].Traps("other", 83)
+	low := l["/lib64/low"]
+	low.Func("more")
+	low.CallLater("other")
+	low.Ret()
+	k := start(t, l)
+	h := open(t, k, "top", false, false)
+	late, early, more := find(t, k, h, "late", ""), find(t, k, h, "early", ""), find(t, k, h, "more", "")
+	open(t, k, "mid", false, false)
+	shut(t, k, h)
+	if names(k) != path+" mid low" {
+		t.Errorf("P21.6: %s", names(k))
+	}
+	from := len(k.Audit())
+	if _, err := k.Call(0, late); !isFault(err, "/lib64/low", "k", api.ErrSymbol) {
+		t.Errorf("P21.6: bound behind the end: %v", err)
+	}
+	if _, err := k.Call(0, early); !isFault(err, "", "", api.ErrGuest) {
+		t.Errorf("P21.6: bound ahead of it, to where nothing is: %v", err)
+	}
+	if v := call(t, k, more); v != 83 || heard(k, from) != "3:3 " {
+		t.Errorf("P21.6: the next one that is left: %d, %s", v, heard(k, from))
 	}
 }
 
