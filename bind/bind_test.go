@@ -252,3 +252,56 @@ func TestVersions(t *testing.T) {
 		}
 	}
 }
+
+// TestEmptySoname: an empty Soname is the need's empty File, whether the object says that it has one or not.
+func TestEmptySoname(t *testing.T) {
+	missing := func(file string) api.Want { return api.Want{Version: "V", File: file} }
+	need := func(file string) api.Verneed {
+		return api.Verneed{File: file, Aux: []api.Veraux{{Index: 9, Name: "V"}}}
+	}
+	user := func(files ...string) api.Object {
+		o := api.Object{Soname: "user"}
+		for _, f := range files {
+			o = needing(o, append(o.Vers.Needs, need(f))...)
+		}
+		return o
+	}
+	for _, has := range []bool{false, true} {
+		bare := api.Object{Dyn: api.Dyn{HasSoname: has}}
+		other, right := with(bare, nil, def(2, "W")), with(bare, nil, def(2, "W"), def(3, "V"))
+		for _, c := range []struct {
+			what  string
+			l     []api.Object
+			names []string
+			at    int
+			want  api.Want
+			ok    bool
+		}{
+			{"itself, without definitions", []api.Object{needing(bare, need(""))}, nil, 0, api.Want{}, true},
+			{"itself, with others", []api.Object{needing(other, need(""))}, nil, 0, missing(""), false},
+			{"itself, with that one", []api.Object{needing(right, need(""))}, nil, 0, api.Want{}, true},
+			{"asked for by a name", []api.Object{needing(bare, need(""))}, []string{"p"}, 0, api.Want{}, true},
+			{"another one, without definitions", []api.Object{user(""), bare}, []string{"p", "q"}, 0, api.Want{}, true},
+			{"another one, with others", []api.Object{user(""), other}, []string{"p", "q"}, 0, missing(""), false},
+			{"another one, with that one", []api.Object{user(""), right}, []string{"p", "q"}, 0, api.Want{}, true},
+			{"the first of two is amiss", []api.Object{other, user(""), right}, []string{"p", "q", "r"}, 1, missing(""), false},
+			{"the first of two is right", []api.Object{right, user(""), other}, []string{"p", "q", "r"}, 0, api.Want{}, true},
+			{"another file", []api.Object{user("x"), bare}, []string{"p", "q"}, 0, missing("x"), false},
+			{"its name", []api.Object{user("q"), bare}, []string{"p", "q"}, 0, api.Want{}, true},
+			{"its name and its Soname", []api.Object{user("q", ""), right}, []string{"p", "q"}, 0, api.Want{}, true},
+			{"its Soname is amiss behind its name", []api.Object{user("r", ""), other, right}, []string{"p", "q", "r"}, 0, missing(""), false},
+		} {
+			if at, w, ok := bind.Versions(c.l, c.names); at != c.at || w != c.want || ok != c.ok {
+				t.Errorf("P17.5: HasSoname %v: %s: %d, %+v, %v", has, c.what, at, w, ok)
+			}
+		}
+	}
+	for _, names := range [][]string{nil, {"p"}, {"p", "q"}} { // all have a Soname, none an empty name
+		if at, w, ok := bind.Versions([]api.Object{user("")}, names); at != 0 || w != missing("") || ok {
+			t.Errorf("P17.5: nobody goes by it: %d, %+v, %v", at, w, ok)
+		}
+	}
+	if at, w, ok := bind.Versions([]api.Object{user("")}, []string{""}); at != 0 || w != (api.Want{}) || !ok {
+		t.Errorf("P17.5: an empty name: %d, %+v, %v", at, w, ok)
+	}
+}
