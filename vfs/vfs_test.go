@@ -91,6 +91,15 @@ func TestNew(t *testing.T) {
 		{"a long link", []api.Node{link("/a", strings.Repeat("/", 4097))}, 0, api.ErrName},
 		{"another name of no clean path", []api.Node{file("/a"), another("/b", "a")}, 1, api.ErrName},
 		{"another name of no path", []api.Node{another("/b", "")}, 0, api.ErrName},
+		{"another name of the root", []api.Node{another("/c", "/")}, 0, api.ErrName},
+		{"another name of the root, behind a directory", []api.Node{dir("/d"), another("/c", "/")}, 1, api.ErrName},
+		{"another name of the root, twice", []api.Node{file("/a"), another("/a", "/")}, 1, api.ErrName},
+		{"another name of the root, nowhere", []api.Node{another("/d/b", "/")}, 0, api.ErrName},
+		{"another name of the root, in a file", []api.Node{file("/a"), another("/a/b", "/")}, 1, api.ErrName},
+		{"another name of two slashes", []api.Node{another("/c", "//")}, 0, api.ErrName},
+		{"another name, a slash behind", []api.Node{file("/a"), another("/b", "/a/")}, 1, api.ErrName},
+		{"another name, two dots", []api.Node{dir("/d"), file("/a"), another("/b", "/d/../a")}, 2, api.ErrName},
+		{"the root itself as another name of a file", []api.Node{file("/a"), another("/", "/a")}, 1, api.ErrName},
 		{"two of a path", []api.Node{file("/a"), dir("/a")}, 1, api.ErrTwice},
 		{"a name ahead of what stands twice", []api.Node{file("/a"), another("/a", "b")}, 1, api.ErrName},
 		{"no directory", []api.Node{file("/d/e")}, 0, api.ErrNone},
@@ -116,6 +125,8 @@ func TestNewMay(t *testing.T) {
 		{file("/" + name), file("/..."), file("/ \xff")},
 		{link("/a", strings.Repeat("x", 4096)), link("/b", "."), link("/c", "nowhere")},
 		{file("/a"), another("/b", "/a"), another("/c", "/b")},
+		{link("/a", "/"), dir("/d"), link("/d/b", "//")}, // a link may lead to the root
+		{{Path: "/d", Kind: api.NodeDir, To: "/"}, {Path: "/d/f", To: "/"}},
 		{{Path: "/d", Kind: api.NodeDir, To: "\x00", Data: []byte{1}}, {Path: "/d/f", To: "\x00"}},
 	} {
 		if tr, err := vfs.New(l); tr == nil || err != nil {
