@@ -67,14 +67,13 @@ func (l *Link) elsewhere(i, sym int) (api.Bound, error) {
 	return l.look(i, sym, others, false)
 }
 
-// where is where an object's symbols are looked for. What it came with may be gone ahead of it, and then means nothing any more.
+// where is where an object's symbols are looked for. What it came with may be gone ahead of it: that is empty, and means nothing any more.
 func (l *Link) where(i int) []int {
 	var scope []int
 	if l.files[i].Dyn.Symbolic {
 		scope = append(scope, i)
 	}
-	scope = append(append(scope, l.global...), l.objects[i].own...)
-	return slices.DeleteFunc(scope, func(n int) bool { return l.objects[n].gone })
+	return append(append(scope, l.global...), l.objects[i].own...)
 }
 
 // look looks for an object's symbol in a scope; where none is found that may mean nothing.

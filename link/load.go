@@ -127,20 +127,16 @@ func (l *Link) depend(i, on int) {
 	}
 }
 
-// versions asks whether all versions that are needed are there, among the objects that aren't gone.
+// versions asks whether all versions that are needed are there. What is gone is still among the objects, at its number, without a name.
 func (l *Link) versions() error {
-	var numbers []int
-	var files []api.Object
-	var names []string
+	names := make([]string, len(l.objects))
 	for i, x := range l.objects {
 		if !x.gone {
-			numbers = append(numbers, i)
-			files = append(files, l.files[i])
-			names = append(names, x.name)
+			names[i] = x.name
 		}
 	}
-	if i, want, ok := bind.Versions(files, names); !ok {
-		return fault(l.objects[numbers[i]].path, want.Version, api.ErrVersion)
+	if i, want, ok := bind.Versions(l.files, names); !ok {
+		return fault(l.objects[i].path, want.Version, api.ErrVersion)
 	}
 	return nil
 }

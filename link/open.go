@@ -204,6 +204,7 @@ func (l *Link) remove(i int) error {
 		}
 	}
 	x.gone = true
+	l.files[i] = api.Object{}
 	l.global = slices.DeleteFunc(l.global, func(n int) bool { return n == i })
 	l.hear(api.Audit{Kind: api.Closed, Object: i})
 	return nil

@@ -8,6 +8,7 @@ import (
 
 	"shackle/api"
 	"shackle/link"
+	"shackle/object"
 	"shackle/sample"
 )
 
@@ -626,6 +627,69 @@ func TestGoneNames(t *testing.T) {
 		t.Errorf("P21.4: handle %d", h)
 	}
 	open(t, k, "user", false, false)
+}
+
+// ofNoFile is a library that needs the version V of the file of the empty name, which a plan can't tell.
+func ofNoFile(t *testing.T) api.Node {
+	t.Helper()
+	x := lib("souser")
+	x.Import(api.PlanSym{Name: "fa", Bind: api.Weak, Version: "V", File: "x"})
+	b, err := x.File()
+	if err != nil {
+		t.Fatal(err)
+	}
+	o, err := object.Parse(b)
+	if err != nil {
+		t.Fatal(err)
+	}
+	copy(b[o.Dyn.Verneed+4:], []byte{0, 0, 0, 0}) // the strings begin with an empty one
+	if o, err = object.Parse(b); err != nil || len(o.Vers.Needs) != 1 || o.Vers.Needs[0].File != "" || o.Vers.Needs[0].Aux[0].Name != "V" {
+		t.Fatalf("%+v, %v", o.Vers, err)
+	}
+	return api.Node{Path: "/lib64/user", Data: b}
+}
+
+// TestGoneVersions: what is gone is still among the objects whose versions are asked: an empty one, at its number, without a name.
+func TestGoneVersions(t *testing.T) {
+	amiss := func(what string, k *link.Link) {
+		t.Helper()
+		before := len(k.Objects())
+		if h, err := k.Open("user", false, false); h != 0 || !isFault(err, "/lib64/user", "V", api.ErrVersion) || len(k.Objects()) != before {
+			t.Errorf("P21.4: %s: %d, %v", what, h, err)
+		}
+	}
+	user := ofNoFile(t)
+	l := some()
+	l[path].Plan.HasSoname, l[path].Plan.Soname = true, "p"
+	l["/lib64/a"].Plan.Syms[0].Version = "W" // what it defined counts no more, when it is gone
+	k := start(t, l, user)
+	amiss("nobody goes by it", k)
+	h := open(t, k, "a", true, false)
+	amiss("nobody goes by it, nobody is gone", k)
+	shut(t, k, h)
+	if u := open(t, k, "user", false, false); u != 5 || names(k) != path+" z user" {
+		t.Errorf("P21.4: behind what is gone: handle %d, %s", u, names(k))
+	}
+	h = open(t, k, "b", false, false)
+	shut(t, k, h)
+	if again := open(t, k, "user", false, false); again != 5 {
+		t.Errorf("P21.4: handle %d", again)
+	}
+
+	// what goes by the empty name, and has other definitions, counts, if it stands ahead of what is gone
+	other := lib("")
+	other.Traps("g", 9).Version = "W"
+	l["/lib64/other"] = other
+	k = start(t, l, user)
+	first := open(t, k, "other", false, false)
+	amiss("what isn't gone, without a Soname", k)
+	shut(t, k, open(t, k, "a", false, false))
+	amiss("what isn't gone, ahead of what is", k)
+	shut(t, k, first)
+	open(t, k, "other", false, false)
+	if u := open(t, k, "user", false, false); u != 7 {
+		t.Errorf("P21.4: what is gone, ahead of what isn't: handle %d", u)
+	}
 }
 
 // TestGoneSlots: a slot of what is gone is none.
